@@ -1,0 +1,1 @@
+"""Nevertwice: floors that never come again, told three ways."""

@@ -1,0 +1,54 @@
+"""Where two lines of different sheaves meet, and the row of this point also at the edge."""
+
+from nevertwice.corners import POINT_RULE
+from nevertwice.fives import five_by_rule, led_round
+from nevertwice.golden import ZERO, integer_above, minus, plus, quotient, reduced
+
+
+def plain_shifts(all_keys):
+    """The plain shifts of five keys."""
+    t_0 = all_keys[0]
+    t_1 = all_keys[1]
+    return (ZERO, ZERO, reduced(t_1), minus(minus(ZERO, t_0), t_1), reduced(t_0))
+
+
+def meeting_point(shifts, one, other):
+    """The point at which two lines of different directions meet."""
+    if (other[0] - one[0]) % 5 > 2:
+        one, other = other, one
+    direction = one[0]
+    height = minus((one[1], 0, 1), shifts[direction])
+    other_height = minus((other[1], 0, 1), shifts[other[0]])
+    if (other[0] - direction) % 5 == 2:
+        # The rule of points at the direction between the two tells its height.
+        next_height = quotient(plus(height, other_height), POINT_RULE)
+    else:
+        next_height = other_height
+    return led_round(five_by_rule(POINT_RULE, height, next_height), direction)
+
+
+def does_side_lift(side, one, other, direction):
+    """Whether at the crossing of lines of two directions, where a line of a third one goes through, too,
+    the side puts the row above the number of this line ([4.4])."""
+    # The three are r - 1, r, r + 1 or r - 2, r, r + 2, so their sum is 3 r, and 2 times 3 is 6.
+    middle = 2 * (one + other + direction) % 5
+    others = [j for j in (one, other, direction) if j != middle]
+    is_near = (others[0] - middle) % 5 in (1, 4)
+    if is_near and direction != middle:
+        return side[middle] == 1
+    return side[middle] == -1
+
+
+def crossing_row(all_keys, side, one, other):
+    """The row of the crossing of two lines of the plain sheaves of a floor with these keys and this side."""
+    shifts = plain_shifts(all_keys)
+    point = meeting_point(shifts, one, other)
+    row = []
+    for j in range(5):
+        height = plus(point[j], shifts[j])
+        number = integer_above(height)
+        is_further_line = height == (number, 0, 1) and j != one[0] and j != other[0]
+        if is_further_line and does_side_lift(side, one[0], other[0], j):
+            number += 1
+        row.append(number)
+    return tuple(row)
