@@ -2,7 +2,7 @@
 
 from nevertwice.checks import are_plain_integers, is_direction, is_plain_integer
 from nevertwice.errors import BadCorner, BadCount, BadDirection, BadMotion, BadNumber, BadPoint, BadRow
-from nevertwice.fives import five_by_rule, led_round, stepped
+from nevertwice.fives import five_by_rule, led_by, stepped
 from nevertwice.golden import are_equal, is_golden, is_whole_golden, minus, plus, reduced, times
 
 # g - 1, the number of the rule of points.
@@ -24,7 +24,8 @@ def is_step(thing):
     return is_row(thing) and sum(thing) == 0
 
 
-def _need_corner(thing):
+def need_corner(thing):
+    """Raises the error for any value that is not a corner."""
     if not is_corner_row(thing):
         raise BadCorner(thing)
 
@@ -34,14 +35,15 @@ def _need_row(thing):
         raise BadRow(thing)
 
 
-def _need_direction(thing):
+def need_direction(thing):
+    """Raises the error for any value that is not a direction."""
     if not is_direction(thing):
         raise BadDirection(thing)
 
 
 def level_of(corner):
     """The sum of a corner."""
-    _need_corner(corner)
+    need_corner(corner)
     return sum(corner)
 
 
@@ -75,8 +77,8 @@ def row_of(one, other, total):
 
 def neighbour(corner, direction, up):
     """The upper or the lower neighbour of a corner, None if that is not a corner."""
-    _need_corner(corner)
-    _need_direction(direction)
+    need_corner(corner)
+    need_direction(direction)
     row = stepped(corner, direction, 1 if up else -1)
     return row if is_corner_row(row) else None
 
@@ -126,7 +128,8 @@ def is_motion(thing):
     return are_plain_integers(thing, 3) and 0 <= thing[0] <= 4 and 0 <= thing[1] <= 1 and 0 <= thing[2] <= 1
 
 
-def _need_motion(thing):
+def need_motion(thing):
+    """Raises the error for any value that is not a motion."""
     if not is_motion(thing):
         raise BadMotion(thing)
 
@@ -138,28 +141,24 @@ def opposite_row(row):
 
 def done(motion, corner):
     """The corner to which the motion is done: mirrored, then turned, then the opposite."""
-    _need_motion(motion)
-    _need_corner(corner)
-    turns, is_mirrored, is_opposite = motion
-    row = corner
-    if is_mirrored:
-        row = tuple([row[-j] for j in range(5)])
-    row = led_round(row, turns)
-    return opposite_row(row) if is_opposite else row
+    need_motion(motion)
+    need_corner(corner)
+    row = led_by(motion, corner)
+    return opposite_row(row) if motion[2] else row
 
 
 def direction_done(motion, direction):
     """The direction to which the motion leads this one."""
-    _need_motion(motion)
-    _need_direction(direction)
+    need_motion(motion)
+    need_direction(direction)
     turns, is_mirrored, _ = motion
     return (turns - direction) % 5 if is_mirrored else (turns + direction) % 5
 
 
 def both(first, second):
     """The motion that does first and then second."""
-    _need_motion(first)
-    _need_motion(second)
+    need_motion(first)
+    need_motion(second)
     # The direction 0 is led to what the turns of both together are.
     turns = direction_done(second, first[0])
     return (turns, first[1] ^ second[1], first[2] ^ second[2])
@@ -167,6 +166,6 @@ def both(first, second):
 
 def undone(motion):
     """The motion that leads back."""
-    _need_motion(motion)
+    need_motion(motion)
     turns, is_mirrored, is_opposite = motion
     return motion if is_mirrored else (-turns % 5, is_mirrored, is_opposite)

@@ -12,19 +12,23 @@ def plain_shifts(all_keys):
     return (ZERO, ZERO, reduced(t_1), minus(minus(ZERO, t_0), t_1), reduced(t_0))
 
 
-def meeting_point(shifts, one, other):
-    """The point at which two lines of different directions meet."""
-    if (other[0] - one[0]) % 5 > 2:
-        one, other = other, one
-    direction = one[0]
-    height = minus((one[1], 0, 1), shifts[direction])
-    other_height = minus((other[1], 0, 1), shifts[other[0]])
-    if (other[0] - direction) % 5 == 2:
+def point_by_heights(direction, height, other_direction, other_height):
+    """The point that has these heights along two different directions."""
+    if (other_direction - direction) % 5 > 2:
+        direction, other_direction = other_direction, direction
+        height, other_height = other_height, height
+    next_height = other_height
+    if (other_direction - direction) % 5 == 2:
         # The rule of points at the direction between the two tells its height.
         next_height = quotient(plus(height, other_height), POINT_RULE)
-    else:
-        next_height = other_height
     return led_round(five_by_rule(POINT_RULE, height, next_height), direction)
+
+
+def meeting_point(shifts, one, other):
+    """The point at which two lines of different directions meet."""
+    height = minus((one[1], 0, 1), shifts[one[0]])
+    other_height = minus((other[1], 0, 1), shifts[other[0]])
+    return point_by_heights(one[0], height, other[0], other_height)
 
 
 def does_side_lift(side, one, other, direction):

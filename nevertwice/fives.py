@@ -16,6 +16,19 @@ def led_round(five, many):
     return tuple([five[(r - many) % 5] for r in range(5)])
 
 
+def led_by(motion, five):
+    """The five with what was at each direction now where the motion leads this direction."""
+    turns, is_mirrored, _ = motion
+    if is_mirrored:
+        five = tuple([five[-r] for r in range(5)])
+    return led_round(five, turns)
+
+
+def with_part(five, direction, part):
+    """The five with another part at one direction."""
+    return five[:direction] + (part,) + five[direction + 1:]
+
+
 def stepped(row, direction, by):
     """The row with so much more at one direction."""
-    return row[:direction] + (row[direction] + by,) + row[direction + 1:]
+    return with_part(row, direction, row[direction] + by)

@@ -1,10 +1,9 @@
 """Five sheaves of parallel lines whose crossings are the tiles of a floor."""
 
 from nevertwice.checks import is_direction, is_line, is_tuple_of
-from nevertwice.corners import is_corner_row, is_point
+from nevertwice.corners import is_point, need_corner, need_direction
 from nevertwice.crossings import crossing_row, meeting_point, plain_shifts
-from nevertwice.errors import (AtTheEdge, BadCorner, BadDirection, BadLine, BadPoint, BadShifts,
-                               NotAtTheEdge)
+from nevertwice.errors import AtTheEdge, BadLine, BadPoint, BadShifts, NotAtTheEdge
 from nevertwice.floors import Floor, is_within_window, whole_keys
 from nevertwice.golden import ZERO, integer_above, is_golden, is_whole, minus, plus, reduced, times
 from nevertwice.tiles import tiles_at
@@ -110,8 +109,7 @@ def tile_of(floor, one, other):
 
 def edge_line(floor, direction):
     """The number of the edge line of a direction whose key is whole."""
-    if not is_direction(direction):
-        raise BadDirection(direction)
+    need_direction(direction)
     key = floor.all_keys[direction]
     if not is_whole(key):
         raise NotAtTheEdge()
@@ -122,8 +120,7 @@ def _need_regular_and_corner(floor, corner):
     directions = whole_keys(floor)
     if len(directions) > 0:
         raise AtTheEdge(directions)
-    if not is_corner_row(corner):
-        raise BadCorner(corner)
+    need_corner(corner)
 
 
 def _point_inside(floor, corner):

@@ -1,9 +1,9 @@
 """Whole floors, given by their keys and their side, and told by windows."""
 
 from nevertwice.checks import are_plain_integers, is_direction, is_tuple_of
-from nevertwice.corners import is_corner_row, near_sum, shadow_of
+from nevertwice.corners import is_corner_row, near_sum, need_corner, need_direction, shadow_of
 from nevertwice.crossings import crossing_row
-from nevertwice.errors import BadCorner, BadDirection, BadNumber, BadSide, BadText
+from nevertwice.errors import BadNumber, BadSide, BadText
 from nevertwice.fives import five_by_rule, led_round, stepped
 from nevertwice.golden import (is_whole, is_whole_golden, minus, number_text, read_number, reduced,
                                sign_of_parts)
@@ -100,16 +100,10 @@ def sides(one, other):
     return _sides_of(keys_by(one, other))
 
 
-def _need_corner_and_direction(corner, direction):
-    if not is_corner_row(corner):
-        raise BadCorner(corner)
-    if not is_direction(direction):
-        raise BadDirection(direction)
-
-
 def rest_of(floor, corner, direction):
     """The rest of a corner at a direction: its shadow less the key."""
-    _need_corner_and_direction(corner, direction)
+    need_corner(corner)
+    need_direction(direction)
     return minus(shadow_of(corner)[direction], floor.all_keys[direction])
 
 
@@ -124,7 +118,8 @@ def is_rest_below(floor, row, direction, bound):
 
 def is_below_bound(floor, corner, direction, bound):
     """Whether the rest of a corner is below a whole golden number; the side decides ties."""
-    _need_corner_and_direction(corner, direction)
+    need_corner(corner)
+    need_direction(direction)
     if not is_whole_golden(bound):
         raise BadNumber(bound)
     a, b, _ = reduced(bound)

@@ -15,7 +15,8 @@ def is_golden(thing):
     return are_plain_integers(thing, 3) and thing[2] >= 1
 
 
-def _need_golden(thing):
+def need_golden(thing):
+    """Raises the error for any value that is not a golden number."""
     if not is_golden(thing):
         raise BadNumber(thing)
 
@@ -30,15 +31,15 @@ def _lowest(a, b, d):
 
 def reduced(number):
     """The reduced tuple of the same value."""
-    _need_golden(number)
+    need_golden(number)
     a, b, d = number
     return _lowest(a, b, d)
 
 
 def plus(one, other):
     """one + other."""
-    _need_golden(one)
-    _need_golden(other)
+    need_golden(one)
+    need_golden(other)
     a, b, d = one
     c, e, f = other
     return _lowest(a * f + c * d, b * f + e * d, d * f)
@@ -46,8 +47,8 @@ def plus(one, other):
 
 def minus(one, other):
     """one - other."""
-    _need_golden(one)
-    _need_golden(other)
+    need_golden(one)
+    need_golden(other)
     a, b, d = one
     c, e, f = other
     return _lowest(a * f - c * d, b * f - e * d, d * f)
@@ -55,8 +56,8 @@ def minus(one, other):
 
 def times(one, other):
     """one times other."""
-    _need_golden(one)
-    _need_golden(other)
+    need_golden(one)
+    need_golden(other)
     a, b, d = one
     c, e, f = other
     return _lowest(a * c + b * e, a * e + b * c + b * e, d * f)
@@ -64,8 +65,8 @@ def times(one, other):
 
 def quotient(one, other):
     """one divided by other."""
-    _need_golden(one)
-    _need_golden(other)
+    need_golden(one)
+    need_golden(other)
     a, b, d = one
     c, e, f = other
     if c == 0 and e == 0:
@@ -88,8 +89,8 @@ def sign_of_parts(a, b):
 
 def _order(one, other):
     """The sign of one - other."""
-    _need_golden(one)
-    _need_golden(other)
+    need_golden(one)
+    need_golden(other)
     a, b, d = one
     c, e, f = other
     return sign_of_parts(a * f - c * d, b * f - e * d)
@@ -97,7 +98,7 @@ def _order(one, other):
 
 def sign(number):
     """1, 0 or -1."""
-    _need_golden(number)
+    need_golden(number)
     return sign_of_parts(number[0], number[1])
 
 
@@ -113,7 +114,7 @@ def are_equal(one, other):
 
 def integer_below(number):
     """The greatest integer that is not above the number."""
-    _need_golden(number)
+    need_golden(number)
     a, b, d = number
     root = isqrt(5 * b * b)
     if b < 0:
@@ -124,14 +125,14 @@ def integer_below(number):
 
 def integer_above(number):
     """The least integer that is not below the number."""
-    _need_golden(number)
+    need_golden(number)
     a, b, d = number
     return -integer_below((-a, -b, d))
 
 
 def is_whole(number):
     """Whether the reduced d is 1."""
-    _need_golden(number)
+    need_golden(number)
     a, b, d = number
     return a % d == 0 and b % d == 0
 
@@ -143,7 +144,7 @@ def is_whole_golden(thing):
 
 def conjugate(number):
     """The number with 1 - g in the place of g."""
-    _need_golden(number)
+    need_golden(number)
     a, b, d = number
     return _lowest(a + b, -b, d)
 

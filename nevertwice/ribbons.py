@@ -13,7 +13,8 @@ MOST_TILES = 400
 SHARE_OF_NEXT = (-1, 1, 2)
 
 
-def _need_tile_of(floor, tile):
+def need_tile_of(floor, tile):
+    """Raises the error for any value that is not a tile of the floor."""
     if not has_tile(floor, tile):
         raise BadTile(tile)
 
@@ -38,7 +39,7 @@ def _tile_beside(floor, edge, is_on_left):
 
 def across(floor, tile, edge):
     """The other tile of the floor that has an edge of a tile."""
-    _need_tile_of(floor, tile)
+    need_tile_of(floor, tile)
     # What is no edge of the tile is refused when its side is asked for.
     return _tile_beside(floor, edge, not is_left(tile, edge))
 
@@ -64,7 +65,7 @@ def _tile_further(floor, tile, direction, onward):
 
 def next_tile(floor, tile, direction, onward=True):
     """The next tile of the ribbon of this direction, onward, or the other way if onward is false."""
-    _need_tile_of(floor, tile)
+    need_tile_of(floor, tile)
     _need_direction_of(tile, direction)
     return _tile_further(floor, tile, direction, onward)
 
@@ -78,7 +79,7 @@ def _place_on_ribbon(tile, direction):
 
 def along(floor, tile, direction, many):
     """The tile that is many tiles further onward on the ribbon of this direction."""
-    _need_tile_of(floor, tile)
+    need_tile_of(floor, tile)
     _need_direction_of(tile, direction)
     if not is_plain_integer(many):
         raise BadCount(many)
@@ -95,8 +96,8 @@ def along(floor, tile, direction, many):
 
 def tiles_between(floor, one, other):
     """The integer many for which along leads from one to other on the ribbon that has both."""
-    _need_tile_of(floor, one)
-    _need_tile_of(floor, other)
+    need_tile_of(floor, one)
+    need_tile_of(floor, other)
     for direction in (one[1], one[2]):
         if direction in (other[1], other[2]) and one[0][direction] == other[0][direction]:
             return _place_on_ribbon(other, direction) - _place_on_ribbon(one, direction)
@@ -105,7 +106,7 @@ def tiles_between(floor, one, other):
 
 def ribbon_of(floor, tile, direction, many):
     """The tuple of many tiles of the ribbon, the tile first, and onward."""
-    _need_tile_of(floor, tile)
+    need_tile_of(floor, tile)
     _need_direction_of(tile, direction)
     if not is_plain_integer(many) or not 0 <= many <= MOST_TILES:
         raise BadCount(many)

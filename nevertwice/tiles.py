@@ -12,7 +12,8 @@ UP = "up"
 DOWN = "down"
 
 
-def _need_corner_of(floor, corner):
+def need_corner_of(floor, corner):
+    """Raises the error for any value that is not a corner of the floor."""
     if not has_corner(floor, corner):
         raise BadCorner(corner)
 
@@ -29,13 +30,13 @@ def _star_at(floor, corner):
 
 def star_of(floor, corner):
     """The ascending tuple of the edges at a corner: (j, 1) upward, (j, -1) downward."""
-    _need_corner_of(floor, corner)
+    need_corner_of(floor, corner)
     return tuple(_star_at(floor, corner))
 
 
 def tiles_at(floor, corner):
     """The ascending tuple of all tiles of the floor that have the corner."""
-    _need_corner_of(floor, corner)
+    need_corner_of(floor, corner)
     found = []
     star = _star_at(floor, corner)
     for r, by_r in star:
@@ -48,21 +49,21 @@ def tiles_at(floor, corner):
 
 def round_about(floor, corner, steps, *, most=4096):
     """The ascending tuple of all corners that can be reached along at most so many edges."""
-    _need_corner_of(floor, corner)
+    need_corner_of(floor, corner)
     if not is_plain_integer(steps) or steps < 0:
         raise BadCount(steps)
     found = {corner: True}
     last = [corner]
     many = 0
     while many < steps and len(found) <= most:
-        last = _found_next(floor, last, found)
+        last = found_next(floor, last, found)
         many += 1
     if len(found) > most:
         raise TooMany(most)
     return tuple(sorted(found))
 
 
-def _found_next(floor, last, found):
+def found_next(floor, last, found):
     """The corners one edge further that were not found before; they are noted as found."""
     further = []
     for corner in last:
@@ -81,14 +82,15 @@ def is_tile_row(thing):
     return is_direction(thing[1]) and is_direction(thing[2]) and thing[1] < thing[2]
 
 
-def _need_tile(thing):
+def need_tile(thing):
+    """Raises the error for any value that is not a tile, of whichever floor."""
     if not is_tile_row(thing):
         raise BadTile(thing)
 
 
 def corners_of(tile):
     """The tuple of foot, foot + e_r, foot + e_s and top."""
-    _need_tile(tile)
+    need_tile(tile)
     foot, r, s = tile
     beside = stepped(foot, r, 1)
     return (foot, beside, stepped(foot, s, 1), stepped(beside, s, 1))
@@ -96,26 +98,26 @@ def corners_of(tile):
 
 def edges_of(tile):
     """The tuple of the edges (k, r), (k, s), (k + e_s, r) and (k + e_r, s)."""
-    _need_tile(tile)
+    need_tile(tile)
     foot, r, s = tile
     return ((foot, r), (foot, s), (stepped(foot, s, 1), r), (stepped(foot, r, 1), s))
 
 
 def is_thick(tile):
     """Whether the two directions are near."""
-    _need_tile(tile)
+    need_tile(tile)
     return (tile[2] - tile[1]) in (1, 4)
 
 
 def is_low(tile):
     """Whether the foot has the level 1."""
-    _need_tile(tile)
+    need_tile(tile)
     return sum(tile[0]) == 1
 
 
 def marks_of(tile):
     """The tuple of the marks of the four edges of a tile."""
-    _need_tile(tile)
+    need_tile(tile)
     inner = UP if is_thick(tile) == is_low(tile) else DOWN
     if is_low(tile):
         return (OUTER, OUTER, inner, inner)
@@ -141,8 +143,8 @@ def _is_left_at(tile, place):
 
 def does_fit(one, other):
     """Whether two tiles have an edge in common at which they lie on both sides and their marks meet."""
-    _need_tile(one)
-    _need_tile(other)
+    need_tile(one)
+    need_tile(other)
     for place, edge in enumerate(edges_of(one)):
         other_place = _place_of_edge(other, edge)
         # Two different tiles have at most one edge in common.
@@ -154,7 +156,7 @@ def does_fit(one, other):
 
 def is_left(tile, edge):
     """Whether the tile lies left of one of its edges."""
-    _need_tile(tile)
+    need_tile(tile)
     place = _place_of_edge(tile, edge)
     if place is None:
         raise BadEdge(edge)
