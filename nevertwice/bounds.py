@@ -1,5 +1,6 @@
 """Patches, and the bounds that their corners set to the keys of the floors that have them."""
 
+from nevertwice.checks import is_ascending
 from nevertwice.corners import is_corner_row, need_corner, need_direction, shadow_of
 from nevertwice.errors import BadPatch
 from nevertwice.floors import WINDOWS, has_corner
@@ -15,9 +16,7 @@ def is_patch(thing):
     """Whether any value is an ascending tuple of 1 to 64 corners."""
     if not isinstance(thing, tuple) or not 1 <= len(thing) <= MOST_CORNERS:
         return False
-    if not all([is_corner_row(part) for part in thing]):
-        return False
-    return all([corner < thing[at + 1] for at, corner in enumerate(thing[:-1])])
+    return all([is_corner_row(part) for part in thing]) and is_ascending(thing)
 
 
 def need_patch(thing):

@@ -24,3 +24,8 @@ def are_plain_integers(thing, many):
 def is_line(thing):
     """Whether any value is a pair of a direction and an integer."""
     return is_tuple_of(thing, 2) and is_direction(thing[0]) and is_plain_integer(thing[1])
+
+
+def is_ascending(rows):
+    """Whether tuples of integers ascend, none of them twice."""
+    return all([row < rows[at + 1] for at, row in enumerate(rows[:-1])])

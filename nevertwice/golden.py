@@ -2,7 +2,7 @@
 
 from math import gcd, isqrt
 
-from nevertwice.checks import are_plain_integers, is_plain_integer
+from nevertwice.checks import is_plain_integer
 from nevertwice.errors import BadNumber, BadPower, BadText, DividedByZero
 from nevertwice.numerals import integer_of_digits, integer_text, is_digits
 
@@ -12,7 +12,11 @@ GREATEST_POWER = 2000
 
 def is_golden(thing):
     """Whether any value is a golden number, reduced or not."""
-    return are_plain_integers(thing, 3) and thing[2] >= 1
+    if not isinstance(thing, tuple) or len(thing) != 3:
+        return False
+    # Written out, as every sum and product of golden numbers asks this first.
+    a, b, d = thing
+    return is_plain_integer(a) and is_plain_integer(b) and is_plain_integer(d) and d >= 1
 
 
 def need_golden(thing):

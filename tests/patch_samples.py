@@ -104,6 +104,9 @@ def living_patches():
     """Patches of 1 to 64 corners that some regular floors have."""
     source = random.Random(5)
     found = [T, far_off(T), ((1, 0, 0, 0, 0),), ((2, 0, 0, 0, 0),), ((1, 1, 1, 0, 0),), ((1, 2, -1, 0, 2),)]
+    # Their regions have 6, 7, 8 and 10 corners.
+    for corner in ((-4, -3, 4, 5, 0), (-5, -2, 5, 5, -1), (-4, -1, 5, 5, -1), (-2, -3, 2, 5, 2)):
+        found.append((corner, (1, 0, 0, 0, 0)))
     for floor in regular_floors():
         for radius in (1, 3, 5):
             around = round_about(floor, home_of(floor), radius)

@@ -86,6 +86,13 @@ def regular_floors():
     return [Floor(one, other) for one, other in pairs]
 
 
+def long_floors():
+    """Regular floors whose keys have integers of about 120 digits."""
+    long = 10 ** 119
+    return [Floor((long + 1, -long // 10, long - 3), (7, long, long // 10 + 9)),
+            Floor((long // 3, 2, long + 7), (-long // 7, 1, long - 9))]
+
+
 def tilt(side):
     """Two integers x, y such that the keys that begin with x and y have the signs of the side."""
     for x in range(-9, 10):

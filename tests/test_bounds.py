@@ -12,8 +12,8 @@ from nevertwice.golden import ZERO, is_below, minus, plus, reduced, times
 from nevertwice.tiles import round_about
 from tests.patch_samples import (G, T, added, FAR_STEP, dead_patches, far_floor, living_patches, not_patches,
                                  own_numbers, told_bounds)
-from tests.samples import (ALL_WHOLE, E, W, check_error, edge_floors, nearly, odd_integers, odd_values,
-                           regular_floors, spoiled)
+from tests.samples import (ALL_WHOLE, E, W, check_error, edge_floors, long_floors, nearly, odd_integers,
+                           odd_values, regular_floors, spoiled)
 
 ONE = (1, 0, 1)
 LESSER = (-1, 1, 1)
@@ -93,7 +93,7 @@ class Bounds(unittest.TestCase):
 
     def test_own_bounds_tell_the_corners(self):
         # A regular floor has a corner exactly if all keys are beyond the own bounds.
-        for floor in regular_floors():
+        for floor in regular_floors() + long_floors():
             for row in NEAR[::3] + list(round_about(floor, home_of(floor), 4)):
                 is_low = sum(row) in (1, 3)
                 beyond = [is_below(own, key) if is_low else is_below(key, own)
@@ -179,7 +179,7 @@ class Sums(unittest.TestCase):
 class HasPatch(unittest.TestCase):
     def test_has_patch(self):
         source = random.Random(9)
-        for floor in regular_floors() + edge_floors():
+        for floor in regular_floors() + edge_floors() + long_floors():
             around = round_about(floor, home_of(floor), 5)
             beside = nearly(floor)
             for many in (1, 3, 12, 64):

@@ -154,7 +154,8 @@ class Motions(unittest.TestCase):
         for floor in (E, W, ALL_WHOLE):
             for first in MOTIONS:
                 for second in MOTIONS:
-                    self.assertEqual(floor_done(second, floor_done(first, floor)), floor_done(both(first, second), floor))
+                    done_in_turn = floor_done(second, floor_done(first, floor))
+                    self.assertEqual(done_in_turn, floor_done(both(first, second), floor))
 
     def test_motions_between(self):
         source = random.Random(2)

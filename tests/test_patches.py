@@ -13,7 +13,7 @@ from nevertwice.patches import (a_floor, a_lean_patch, do_say_the_same, does_liv
 from nevertwice.tiles import corners_of, round_about
 from tests.patch_samples import (FOUR_TILES, KINDS, T, dead_patches, far_floor, far_off, four_tiles_patch,
                                  living_patches, not_patches, right_papers, told_bounds)
-from tests.samples import E, W, check_error, edge_floors, odd_values, regular_floors, spoiled
+from tests.samples import E, W, check_error, edge_floors, long_floors, odd_values, regular_floors, spoiled
 
 LIVING = living_patches()
 DEAD = dead_patches()
@@ -120,8 +120,12 @@ class Papers(unittest.TestCase):
             patch = round_about(floor, home_of(floor), 2)
             self.assertIs(has_patch(floor, patch) and does_live(patch), True)
             self.assertIs(patch_holds(patch, ("lives",) + floor.all_keys[:2]), False)
+        for floor in long_floors():
+            patch = round_about(floor, home_of(floor), 4)[:64]
+            self.assertIs(patch_holds(patch, ("lives",) + floor.all_keys[:2]), True)
+            self.assertIs(has_patch(a_floor(patch), patch), True)
         # Just at a bound of T, and beyond it, and within.
-        for t_1, is_right in (((0, 0, 1), False), ((1, 0, 10 ** 40), False), ((-1, 0, 10 ** 40), True)):
+        for t_1, is_right in (((0, 0, 1), False), ((1, 0, 10 ** 119), False), ((-1, 0, 10 ** 119), True)):
             self.assertIs(patch_holds(T, ("lives", (1, 0, 3), t_1)), is_right)
 
     def test_missing_bounds(self):

@@ -1,5 +1,6 @@
 """Part 4: steps and shortest ways."""
 
+import inspect
 import unittest
 
 from nevertwice.corners import point_by
@@ -9,9 +10,10 @@ from nevertwice.floors import has_corner, has_edge, home_of
 from nevertwice.tiles import round_about, star_of
 from nevertwice.ways import a_way, corners_between, parting_lines, steps_between, way_holds
 from tests.patch_samples import FAR_STEP, added, far_floor
-from tests.samples import ALL_WHOLE, E, W, check_error, edge_floors, odd_values, regular_floors, spoiled
+from tests.samples import (ALL_WHOLE, E, W, check_error, edge_floors, long_floors, odd_values, regular_floors,
+                           spoiled)
 
-FLOORS = regular_floors() + edge_floors()
+FLOORS = regular_floors() + edge_floors() + long_floors()
 HOME = (0, 0, 1, 0, 1)
 
 
@@ -165,7 +167,8 @@ class Ways(unittest.TestCase):
         check_error(self, TooMany, {"most": 400}, parting_lines, E, HOME, way[401])
 
     def test_most_by_name_only(self):
-        for function in (parting_lines, a_way, corners_between):
+        for function, most in ((parting_lines, 400), (a_way, 401), (corners_between, 400)):
+            self.assertEqual(inspect.signature(function).parameters["most"].default, most)
             with self.assertRaises(TypeError):
                 function(E, HOME, HOME, 400)
 
