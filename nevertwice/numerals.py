@@ -40,3 +40,14 @@ def integer_of_digits(digits):
     for start in range(head, len(digits), BLOCK_DIGITS):
         value = value * block + int(digits[start:start + BLOCK_DIGITS])
     return value
+
+
+def integer_written(text):
+    """The integer that a string tells as Python writes it, None for any other string."""
+    digits = text.removeprefix("-")
+    if not is_digits(digits):
+        return None
+    value = integer_of_digits(digits)
+    if digits != text:
+        value = -value
+    return value if integer_text(value) == text else None

@@ -66,6 +66,13 @@ def least(numbers):
     return best
 
 
+def bounds_together(one, other):
+    """The bounds of what both of two bounds leave."""
+    lows = tuple([greatest(pair) for pair in zip(one[0], other[0])])
+    highs = tuple([least(pair) for pair in zip(one[1], other[1])])
+    return (lows, highs)
+
+
 def sure_lows_of(bounds):
     """The greatest low sum for each direction."""
     lows, highs = bounds

@@ -133,6 +133,18 @@ def sure_holds(patch, corner, thing):
     return kind == "barred" and empty_paper_holds(_bounds_with(patch, corner), told)
 
 
+def first_not_sure(bounds, corners):
+    """The first of the corners that is not sure in the region, with keys 0 and 1 of a regular floor that lacks it;
+    None if all are sure."""
+    lows = sure_lows_of(bounds)
+    highs = sure_highs_of(bounds)
+    for corner in corners:
+        direction = _direction_left_open(corner, lows if does_bound_below(corner) else highs)
+        if direction is not None:
+            return (corner, keys_inside(_bounds_without(bounds, corner, direction)))
+    return None
+
+
 def _sure_among(bounds, corners):
     """Those of the corners that are sure."""
     lows = sure_lows_of(bounds)
