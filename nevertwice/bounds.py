@@ -1,10 +1,9 @@
 """Patches, and the bounds that their corners set to the keys of the floors that have them."""
 
 from nevertwice.checks import is_ascending
-from nevertwice.corners import is_corner_row, need_corner, need_direction, shadow_of
+from nevertwice.corners import is_corner_row, near_sum, need_corner, need_direction
 from nevertwice.errors import BadPatch
 from nevertwice.floors import WINDOWS, has_corner
-from nevertwice.golden import minus
 from nevertwice.regions import greatest, least, sums_at
 
 MOST_CORNERS = 64
@@ -35,7 +34,7 @@ def own_bounds(corner):
     need_corner(corner)
     # A rest beyond the window is a key on the other side of the own bound.
     a, b = WINDOWS[sum(corner)]
-    return tuple([minus(part, (a, b, 1)) for part in shadow_of(corner)])
+    return tuple([(near_sum(corner, r) - a, -corner[r] - b, 1) for r in range(5)])
 
 
 def _low_bounds_of(corners):
@@ -46,6 +45,15 @@ def _low_bounds_of(corners):
 def _high_bounds_of(corners):
     own = [own_bounds(corner) for corner in corners if not does_bound_below(corner)]
     return tuple([least([bounds[r] for bounds in own]) for r in range(5)])
+
+
+def bounds_with(bounds, corner):
+    """The bounds together with the own bounds of a corner."""
+    lows, highs = bounds
+    own = own_bounds(corner)
+    if does_bound_below(corner):
+        return (tuple([greatest(pair) for pair in zip(lows, own)]), highs)
+    return (lows, tuple([least(pair) for pair in zip(highs, own)]))
 
 
 def bounds_of(corners):

@@ -1,10 +1,10 @@
 """Whether patches live, and which patches say the same."""
 
-from nevertwice.bounds import bounds_of, need_patch
+from nevertwice.bounds import bounds_of, bounds_with, does_bound_below, need_patch, own_bounds
 from nevertwice.errors import Dead
 from nevertwice.floors import Floor
-from nevertwice.regions import (empty_paper, judge_region, keys_inside, region_paper_holds, sure_highs_of,
-                                sure_lows_of)
+from nevertwice.regions import (bounds_together, does_sum_reach, empty_paper, judge_region, keys_inside,
+                                region_paper_holds, sure_highs_of, sure_lows_of)
 
 
 def does_live(patch):
@@ -62,28 +62,42 @@ def do_say_the_same(one, other):
     return said == _what_is_said(living_bounds(other))
 
 
-def _what_is_left(patch, corner):
-    return tuple([other for other in patch if other != corner])
+def _bounds_behind(patch):
+    """For each place in the patch the bounds of the corners behind it."""
+    found = [bounds_of(())]
+    for corner in patch[:0:-1]:
+        found.append(bounds_with(found[-1], corner))
+    return found[::-1]
 
 
-def _is_spare(patch, corner, said):
-    """Whether the patch says this also if a corner is left out."""
-    left = _what_is_left(patch, corner)
-    return len(left) > 0 and _what_is_said(bounds_of(left)) == said
+def _is_spare(bounds, corner):
+    """Whether corners with these bounds say the same with the corner: whether it is sure for them."""
+    is_low = does_bound_below(corner)
+    for direction, own in enumerate(own_bounds(corner)):
+        if not does_sum_reach(bounds, direction, own, is_low):
+            return False
+    return True
 
 
 def is_lean(patch):
     """Whether no corner can be left out without a change of what the patch says."""
-    said = _what_is_said(living_bounds(patch))
-    return not any([_is_spare(patch, corner, said) for corner in patch])
+    living_bounds(patch)
+    ahead = bounds_of(())
+    for corner, behind in zip(patch, _bounds_behind(patch)):
+        if _is_spare(bounds_together(ahead, behind), corner):
+            return False
+        ahead = bounds_with(ahead, corner)
+    return True
 
 
 def a_lean_patch(patch):
     """A lean patch within the patch that says the same."""
-    said = _what_is_said(living_bounds(patch))
-    lean = patch
-    for corner in patch:
+    living_bounds(patch)
+    lean = []
+    kept = bounds_of(())
+    for corner, behind in zip(patch, _bounds_behind(patch)):
         # A corner that cannot be left out of a patch cannot be left out of a lesser one that says the same.
-        if _is_spare(lean, corner, said):
-            lean = _what_is_left(lean, corner)
-    return lean
+        if not _is_spare(bounds_together(kept, behind), corner):
+            lean.append(corner)
+            kept = bounds_with(kept, corner)
+    return tuple(lean)

@@ -1,46 +1,49 @@
 """What low and high bounds of the five keys say together.
 
-Bounds are a pair of tuples, the lows and the highs, of five golden numbers each, with None where there is no bound.
-Their region is the set of all pairs (t_0, t_1) whose five keys lie between them.
+Bounds are a pair of tuples, the lows and the highs, of five whole golden numbers each, reduced, with None where
+there is no bound. Their region is the set of all pairs (t_0, t_1) whose five keys lie between them.
 """
 
 from nevertwice.checks import is_direction, is_tuple_of
 from nevertwice.floors import keys_by
-from nevertwice.golden import ZERO, is_below, is_golden, is_whole, minus, plus, quotient, sign, times
+from nevertwice.golden import is_below, is_golden, is_whole, minus, plus, quotient, sign, sign_of_parts, times
 
-# A sum of bounds consists of terms (factor, is_own, offset): so many times the bound at r + offset, an own one
+# A sum of bounds consists of terms ((a, b), is_own, offset): a + b g times the bound at r + offset, an own one
 # or one of the other kind.
 # The seven low sums of [6.4], for which the own bounds are the lows; with the highs they are the high sums.
 SUMS = (
-    (((1, 0, 1), True, 0),),
-    (((1, -1, 1), False, -1), ((1, -1, 1), False, 1)),
-    (((-1, 0, 1), False, 2), ((0, -1, 1), False, 1)),
-    (((-1, 0, 1), False, -2), ((0, -1, 1), False, -1)),
-    (((0, 1, 1), True, -2), ((0, 1, 1), True, 2)),
-    (((-1, 1, 1), True, 2), ((-1, 0, 1), False, -1)),
-    (((-1, 1, 1), True, -2), ((-1, 0, 1), False, 1)),
+    (((1, 0), True, 0),),
+    (((1, -1), False, -1), ((1, -1), False, 1)),
+    (((-1, 0), False, 2), ((0, -1), False, 1)),
+    (((-1, 0), False, -2), ((0, -1), False, -1)),
+    (((0, 1), True, -2), ((0, 1), True, 2)),
+    (((-1, 1), True, 2), ((-1, 0), False, -1)),
+    (((-1, 1), True, -2), ((-1, 0), False, 1)),
 )
 # For each kind of paper of [6.3] that shows that a region is empty the sum, the lows being the own bounds,
 # that is not below 0 if it is right.
 EMPTY_PAPERS = {
-    "pair": (((1, 0, 1), True, 0), ((-1, 0, 1), False, 0)),
-    "lows": (((1, 0, 1), True, -1), ((1, 0, 1), True, 1), ((0, 1, 1), True, 0)),
-    "highs": (((-1, 0, 1), False, -1), ((-1, 0, 1), False, 1), ((0, -1, 1), False, 0)),
-    "lowgap": (((1, 0, 1), True, -2), ((1, 0, 1), True, 2), ((1, -1, 1), False, 0)),
-    "highgap": (((-1, 0, 1), False, -2), ((-1, 0, 1), False, 2), ((-1, 1, 1), True, 0)),
+    "pair": (((1, 0), True, 0), ((-1, 0), False, 0)),
+    "lows": (((1, 0), True, -1), ((1, 0), True, 1), ((0, 1), True, 0)),
+    "highs": (((-1, 0), False, -1), ((-1, 0), False, 1), ((0, -1), False, 0)),
+    "lowgap": (((1, 0), True, -2), ((1, 0), True, 2), ((1, -1), False, 0)),
+    "highgap": (((-1, 0), False, -2), ((-1, 0), False, 2), ((-1, 1), True, 0)),
 }
 
 
 def _sum_of_terms(terms, own, other, direction):
     """The sum of bounds, None if one of them does not exist."""
-    total = ZERO
-    for factor, is_own, offset in terms:
+    total_a = 0
+    total_b = 0
+    for (a, b), is_own, offset in terms:
         bounds = own if is_own else other
         bound = bounds[(direction + offset) % 5]
         if bound is None:
             return None
-        total = plus(total, times(factor, bound))
-    return total
+        # Written out for whole numbers, as very many of these sums are asked for.
+        total_a += a * bound[0] + b * bound[1]
+        total_b += (a + b) * bound[1] + b * bound[0]
+    return (total_a, total_b, 1)
 
 
 def sums_at(own, other, direction):
@@ -48,22 +51,39 @@ def sums_at(own, other, direction):
     return tuple([_sum_of_terms(terms, own, other, direction) for terms in SUMS])
 
 
+def is_less(one, other):
+    """Whether one whole golden number is less than another one."""
+    return sign_of_parts(one[0] - other[0], one[1] - other[1]) < 0
+
+
 def greatest(numbers):
-    """The greatest of these golden numbers, None being no number; None if there is none."""
+    """The greatest of these whole golden numbers, None being no number; None if there is none."""
     best = None
     for number in numbers:
-        if number is not None and (best is None or is_below(best, number)):
+        if number is not None and (best is None or is_less(best, number)):
             best = number
     return best
 
 
 def least(numbers):
-    """The least of these golden numbers, None being no number; None if there is none."""
+    """The least of these whole golden numbers, None being no number; None if there is none."""
     best = None
     for number in numbers:
-        if number is not None and (best is None or is_below(number, best)):
+        if number is not None and (best is None or is_less(number, best)):
             best = number
     return best
+
+
+def does_sum_reach(bounds, direction, own_bound, is_low):
+    """Whether some sum at a direction makes an own bound say nothing new: a low sum that is at least a low bound,
+    or a high sum that is at most a high one."""
+    lows, highs = bounds
+    own, other = (lows, highs) if is_low else (highs, lows)
+    for terms in SUMS:
+        total = _sum_of_terms(terms, own, other, direction)
+        if total is not None and not (is_less(total, own_bound) if is_low else is_less(own_bound, total)):
+            return True
+    return False
 
 
 def bounds_together(one, other):
@@ -88,7 +108,7 @@ def sure_highs_of(bounds):
 def _does_show_empty(bounds, kind, direction):
     lows, highs = bounds
     total = _sum_of_terms(EMPTY_PAPERS[kind], lows, highs, direction)
-    return total is not None and sign(total) >= 0
+    return total is not None and sign_of_parts(total[0], total[1]) >= 0
 
 
 def empty_paper(bounds):
