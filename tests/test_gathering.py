@@ -154,6 +154,9 @@ class Rounds(unittest.TestCase):
         self.assertEqual(round_length(Floor((7, -3, 1), (0, 2, 1), (1, 1, -1, 1, -1))), 2)
         # -g is 2 for keys that are multiples of (3 - g) / 5, as 5 divides (3 - g)(2 + g).
         self.assertEqual(round_length(Floor((3, -1, 5), (3, -1, 5))), 4)
+        # A regular floor can come round by an odd number of gatherings, one at the edge cannot.
+        self.assertEqual(round_length(Floor((8, -13, 11), (7, 1, 11))), 5)
+        self.assertEqual(round_length(W), 6)
         self.assertEqual(plus((3, -1, 5), (2, 1, 5)), (1, 0, 1))
 
 

@@ -7,7 +7,7 @@ from nevertwice.corners import done
 from nevertwice.errors import (BadChange, BadCorner, BadDirection, BadMotion, BadName, BadPromise, BadStep, BadText,
                                FloorError, Full, InUse, LastCorner, NameTaken, NoName, NoPromise, NothingToRedo,
                                NothingToUndo, NotLaid, NoWorm, Unkept)
-from nevertwice.floors import Floor, has_corner, home_of, whole_keys
+from nevertwice.floors import Floor, has_corner, home_of, sides, whole_keys
 from nevertwice.gathering import cut_floor, gathered
 from nevertwice.moving import floor_done, judge_move, move_holds, moved
 from nevertwice.edges import sides_beside, turned
@@ -194,6 +194,10 @@ class Promises(unittest.TestCase):
         self.assertIs(fault_holds(yard, ("regular", "all"), ("edge", (0, 1, 2, 3, 4))), True)
         self.assertIs(fault_holds(yard, ("regular", "all"), ("edge", (0, True, 2, 3, 4))), False)
         self.assertIs(fault_holds(yard, ("regular", "e"), ("edge", ())), False)
+        for word in ("Edge", "lacks", None, ("edge",)):
+            self.assertIs(fault_holds(yard, ("regular", "w"), (word, (0,))), False)
+        self.assertIs(fault_holds(yard, ("worm", "w", 0), ("no worm",)), False)
+        self.assertIs(fault_holds(yard, ("worm", "w", 1), ("no worm",)), True)
 
     def test_lack_faults(self):
         yard = filled()
@@ -228,6 +232,18 @@ class Promises(unittest.TestCase):
         for keys in (((0, 0, 1), (1, 0, 2)), ((5, 0, 3), (1, 0, 3))):
             self.assertIs(fault_holds(yard, promise, (word,) + keys + (corner,)), False)
             self.assertIs(fault_holds(yard, ("never", "p", "p"), ("both",) + keys), False)
+        self.assertIs(fault_holds(yard, promise, ("Parted", one, other, corner)), False)
+        for keys in itertools.product(((2, 0, 3), (-1, 0, 3), (-3, 0, 5), (1, 0, 3), (1, 0, 7), (-1, 0, 9)), repeat=2):
+            if sides(*keys) != ((0, 0, 0, 0, 0),):
+                continue
+            floor = Floor(keys[0], keys[1])
+            for wrong in T:
+                right = has_patch(floor, P) and not has_corner(floor, wrong)
+                self.assertIs(fault_holds(yard, promise, (word,) + keys + (wrong,)), right)
+            self.assertIs(fault_holds(yard, ("never", "p", "t"), ("both",) + keys), has_patch(floor, P)
+                          and has_patch(floor, T))
+        spoilt = tuple([bool(part) if part in (0, 1) else part for part in corner])
+        self.assertIs(fault_holds(yard, promise, (word, one, other, spoilt)), False)
         # Not a corner of the other patch.
         self.assertIs(fault_holds(yard, promise, (word, one, other, (9, -8, 0, 0, 0))), False)
 
@@ -389,6 +405,10 @@ class Changes(unittest.TestCase):
         self.assertEqual(yard.promises(), (("has", "lacks", "lives"), ("lives", "lives")))
         yard.change(("rename", "lives", "has"))
         self.assertEqual(yard.promises(), (("has", "lacks", "has"), ("lives", "has")))
+        # The word of a promise is not one of its names.
+        yard.change(("floor", "follows", E))
+        yard.change(("promise", ("follows", "has", "has")))
+        yard.change(("drop", "follows"))
         yard.change(("release", ("has", "lacks", "has")))
         yard.change(("drop", "lacks"))
         self.assertEqual(Yard.read(str(yard)), yard)
@@ -604,6 +624,7 @@ class Texts(unittest.TestCase):
             self.check_line(4, *start, "corner 0 0 0 0 1", wrong)
         self.check_line(4, *start, "corner 0 0 1 0 0", "corner 0 0 1 0 0")
         self.check_line(4, *start, "corner 0 0 1 0 0", "corner 0 0 0 0 1")
+        self.check_line(5, *start, "corner 0 0 0 0 1", "corner 0 0 1 0 0", "corner 0 0 0 1 0")
         # A patch without a corner: the next line cannot stand, or the one behind the last one.
         self.check_line(3, *start)
         self.check_line(3, *start, "patch q", "corner 0 0 1 0 0")
