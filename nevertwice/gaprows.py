@@ -1,6 +1,6 @@
 """Rows of gaps: the long and the short gaps between the bars of one direction."""
 
-from nevertwice.barlines import LEAST_PHASE, LESSER, ONE, PHASE_PART, bar_of, phase_of
+from nevertwice.barlines import LEAST_PHASE, LESSER, ONE, bar_of, phase_of
 from nevertwice.checks import is_plain_integer, is_tuple_of
 from nevertwice.errors import BadCount, BadGaps, BadPhase, Dead, TooMany
 from nevertwice.golden import are_equal, is_below, is_golden, is_whole, minus, plus, sign, sign_of_parts, times
@@ -12,7 +12,7 @@ MOST_LENGTH = 10 ** 30
 # Some phase; all gaps that stand follow bars of each floor, whichever it is.
 SOME_PHASE = (1, 0, 3)
 # 2 - g: what is above it comes from a bar with a short gap.
-BEHIND_SHORT = PHASE_PART
+BEHIND_SHORT = (2, -1, 1)
 # -g, by which phases are led on if a floor is gathered.
 GATHERING = (0, -1, 1)
 

@@ -4,7 +4,7 @@ from math import gcd, isqrt
 
 from nevertwice.checks import is_plain_integer
 from nevertwice.errors import BadNumber, BadPower, BadText, DividedByZero
-from nevertwice.numerals import integer_of_digits, integer_text, is_digits
+from nevertwice.numerals import integer_text, integer_written
 
 ZERO = (0, 0, 1)
 GREATEST_POWER = 2000
@@ -190,14 +190,5 @@ def _number_written(text):
     """What a text like -3+1g/5 tells as a tuple (a, b, d), with None for what is no integer."""
     front, _, behind = text.partition("g")
     at = max(front.rfind("+"), front.rfind("-"), 0)
-    denominator = 1 if behind == "" else _signed(behind.removeprefix("/"))
-    return (_signed(front[:at]), _signed(front[at:].removeprefix("+")), denominator)
-
-
-def _signed(text):
-    """The integer that digits tell, perhaps with a minus ahead; None for any other string."""
-    digits = text.removeprefix("-")
-    if not is_digits(digits):
-        return None
-    value = integer_of_digits(digits)
-    return value if digits == text else -value
+    denominator = 1 if behind == "" else integer_written(behind.removeprefix("/"))
+    return (integer_written(front[:at]), integer_written(front[at:].removeprefix("+")), denominator)

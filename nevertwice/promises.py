@@ -14,18 +14,18 @@ from nevertwice.sure import first_not_sure
 
 LETTERS = "abcdefghijklmnopqrstuvwxyz"
 LONGEST_NAME = 8
-# What stands in each kind of promise behind the word.
 FLOOR = "floor"
 PATCH = "patch"
 DIRECTION = "direction"
+# For each kind of promise what stands behind the word.
 PROMISES = {
-    "regular": (FLOOR,),
-    "has": (FLOOR, PATCH),
-    "lives": (PATCH,),
-    "follows": (PATCH, PATCH),
-    "never": (PATCH, PATCH),
-    "same": (FLOOR, FLOOR),
-    "worm": (FLOOR, DIRECTION),
+    "regular": ("floor",),
+    "has": ("floor", "patch"),
+    "lives": ("patch",),
+    "follows": ("patch", "patch"),
+    "never": ("patch", "patch"),
+    "same": ("floor", "floor"),
+    "worm": ("floor", "direction"),
 }
 NO_WORM = ("no worm",)
 

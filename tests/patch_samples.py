@@ -7,7 +7,7 @@ from nevertwice.corners import done, shadow_of
 from nevertwice.fivesheaves import tile_of
 from nevertwice.floors import Floor, home_of
 from nevertwice.golden import ZERO, is_below, minus, plus, sign, times
-from nevertwice.tiles import round_about
+from nevertwice.tiles import round_about, tiles_at
 from tests.samples import E, odd_values, regular_floors, spoiled
 
 G = (0, 1, 1)
@@ -32,6 +32,15 @@ def far_floor(floor):
     """The floor moved in the same way."""
     shadow = shadow_of(FAR_STEP)
     return Floor(plus(floor.all_keys[0], shadow[0]), plus(floor.all_keys[1], shadow[1]), floor.side)
+
+
+def near_tiles(floor, steps):
+    """The tiles at the corners that can be reached from the home of a floor along so many edges."""
+    found = {}
+    for corner in round_about(floor, home_of(floor), steps):
+        for tile in tiles_at(floor, corner):
+            found[tile] = True
+    return sorted(found)
 
 
 def four_tiles_patch():

@@ -11,8 +11,8 @@ from nevertwice.errors import BadBar, BadBars, BadCount, BadDirection, BadNumber
 from nevertwice.fivesheaves import tile_of
 from nevertwice.floors import Floor, has_tile, home_of, whole_keys
 from nevertwice.golden import are_equal, integer_below, is_below, is_whole, minus, plus, power, reduced, times
-from nevertwice.tiles import corners_of, edges_of, is_low, is_thick, round_about, tiles_at
-from tests.patch_samples import FAR_STEP, G, KINDS, added, far_floor, right_papers
+from nevertwice.tiles import corners_of, edges_of, is_low, is_thick
+from tests.patch_samples import FAR_STEP, G, KINDS, added, far_floor, near_tiles, right_papers
 from tests.samples import (ALL_WHOLE, E, W, check_error, edge_floors, long_floors, nearly, odd_integers,
                            odd_values, regular_floors, spoiled)
 
@@ -25,14 +25,6 @@ FIRST = ((0, 0, 1, 0, 1), 0, 1)
 NEAR = [(j, x, y) for j in range(5) for x in range(-5, 6) for y in range(-5, 6)]
 FAR_NUMBERS = (10 ** 60 - 1, -10 ** 59 - 7, 123456789)
 PAPERS = [(kind, r) for kind in KINDS for r in range(5)]
-
-
-def near_tiles(floor, steps):
-    found = {}
-    for corner in round_about(floor, home_of(floor), steps):
-        for tile in tiles_at(floor, corner):
-            found[tile] = True
-    return sorted(found)
 
 
 def phase_in(floor, bar):

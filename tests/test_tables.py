@@ -7,26 +7,18 @@ import unittest
 from nevertwice.corners import is_corner_row, point_of
 from nevertwice.errors import (BadEdge, BadText, BadTile, Dead, FloorError, Full, Laid, NothingToRedo, NothingToUndo,
                                NotLaid, Overlaps, Unfit)
-from nevertwice.floors import Floor, has_tile, home_of, whole_keys
+from nevertwice.floors import Floor, has_tile, whole_keys
 from nevertwice.golden import is_below, minus
 from nevertwice.patches import does_live, judge_patch, patch_holds
 from nevertwice.tables import Table, do_overlap
-from nevertwice.tiles import corners_of, does_fit, edges_of, is_left, is_tile_row, round_about, tiles_at
-from tests.patch_samples import FAR_STEP, FOUR_TILES, KINDS, added
+from nevertwice.tiles import corners_of, does_fit, edges_of, is_left, is_tile_row
+from tests.patch_samples import FAR_STEP, FOUR_TILES, KINDS, added, near_tiles
 from tests.samples import ALL_WHOLE, E, W, check_error, odd_values, regular_floors, spoiled
 
 A = ((0, 0, 1, 0, 0), 1, 4)
 NOT_TILES = odd_values() + [((1, 0, 0, 0, 0), 1, 0), ((1, 0, 0, 0, 0), 2, 2), ((1, 1, 1, 0, 0), 0, 1),
                             ((0, 0, 0, 0, 0), 0, 1), ((1, 0, 0, 0, 0), False, 1), ((1, 0, 0, 0, 0), 0, 5), 0]
 PAPERS = [(kind, r) for kind in KINDS for r in range(5)]
-
-
-def near_tiles(floor, steps):
-    found = {}
-    for corner in round_about(floor, home_of(floor), steps):
-        for tile in tiles_at(floor, corner):
-            found[tile] = True
-    return sorted(found)
 
 
 def all_tiles_near(reach):

@@ -9,7 +9,7 @@ from nevertwice.barlines import bars_hold, bars_of, has_bar, height_of, judge_ba
 from nevertwice.corners import point_of
 from nevertwice.edges import sides_beside, turns_between, turns_hold, with_side
 from nevertwice.fivesheaves import judge_row, meeting, plain, row_at, row_holds, tile_of
-from nevertwice.floors import Floor, has_corner, has_tile, home_of, sides
+from nevertwice.floors import Floor, has_corner, home_of, sides
 from nevertwice.gaprows import gaps_hold, judge_gaps
 from nevertwice.gathering import gathered, gathered_corner, is_great
 from nevertwice.golden import is_below, is_whole, minus
