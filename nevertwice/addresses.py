@@ -31,8 +31,10 @@ class Address:
             raise BadLetters(ring)
         if kind_climbed_to(is_thick, ring + ring) is None:
             raise BadLetters(ring)
+        plain_beginning, plain_ring = _plain_writing(beginning, ring)
         self.half = half
-        self.beginning, self.ring = _plain_writing(beginning, ring)
+        self.beginning = plain_beginning
+        self.ring = plain_ring
 
     def __eq__(self, other):
         if not isinstance(other, Address) or self.half != other.half:
