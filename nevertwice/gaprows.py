@@ -8,7 +8,6 @@ from nevertwice.golden import are_equal, is_below, is_golden, is_whole, minus, p
 LONG = "L"
 SHORT = "S"
 MOST_GAPS = 400
-MOST_LENGTH = 10 ** 30
 # Some phase; all gaps that stand follow bars of each floor, whichever it is.
 SOME_PHASE = (1, 0, 3)
 # 2 - g: what is above it comes from a bar with a short gap.
@@ -180,7 +179,7 @@ def next_place(floor, direction, number, gaps):
 
 def surely_within(length):
     """Among how many gaps, one behind the other, all gaps of this length that stand are surely found."""
-    if not is_plain_integer(length) or not 1 <= length <= MOST_LENGTH:
+    if not is_plain_integer(length) or not 1 <= length <= 10 ** 30:
         raise BadCount(length)
     last = 1
     following = 2
